@@ -1,0 +1,1 @@
+"""Joinedasks: many hands at one box, their asks joined on the way."""

@@ -1,0 +1,467 @@
+"""The rules of LANGUAGE.md, for every file of the package.
+
+Only what the package needs of the language is let through here; where the rules allow more than
+that (try, sets, lambdas, nested functions, f-strings ..) this file is to grow with the package.
+"""
+
+import ast
+import builtins
+import io
+import keyword
+import pathlib
+import re
+import tokenize
+import unittest
+import warnings
+
+PACKAGE = "joinedasks"
+FOLDER = pathlib.Path(__file__).resolve().parent.parent / PACKAGE
+
+NODES = (
+    ast.Module, ast.FunctionDef, ast.ClassDef, ast.arguments, ast.arg, ast.ImportFrom, ast.alias,
+    ast.Assign, ast.AugAssign, ast.If, ast.While, ast.For, ast.Return, ast.Break, ast.Continue,
+    ast.Pass, ast.Raise, ast.Expr, ast.Constant, ast.List, ast.Tuple, ast.Dict, ast.Name,
+    ast.Attribute, ast.Subscript, ast.Slice, ast.Call, ast.Compare, ast.BoolOp, ast.BinOp,
+    ast.UnaryOp, ast.IfExp, ast.ListComp, ast.comprehension, ast.expr_context, ast.boolop,
+    ast.operator, ast.unaryop, ast.cmpop,
+)
+BARRED_NODES = (ast.Div, ast.MatMult)
+LITERALS = (ast.Constant, ast.List, ast.Tuple, ast.Dict)
+ERRORS = (
+    "Exception ValueError TypeError KeyError IndexError LookupError ZeroDivisionError "
+    "ArithmeticError OverflowError RuntimeError NotImplementedError"
+).split()
+BUILTINS = (
+    "len range enumerate zip min max sum abs sorted reversed int str bool list tuple dict "
+    "isinstance ord repr any all divmod"
+).split() + ERRORS
+KINDS = "int str bool list tuple dict".split()
+ON_THE_SPOT = ("zip", "enumerate", "reversed", "range")
+VIEWS = ("items", "keys", "values")
+TAKERS = "list tuple dict sorted sum any all enumerate zip min max".split()
+METHODS = (
+    "append clear copy count endswith extend find get index insert isalnum isalpha isdigit islower "
+    "isspace isupper items join keys ljust lower lstrip partition pop remove replace reverse rfind "
+    "rjust rpartition rsplit rstrip setdefault split splitlines startswith strip update upper values "
+    "zfill bit_length removeprefix removesuffix rindex isascii isdecimal isnumeric"
+).split()
+MODIFYING = "append clear extend insert pop remove reverse setdefault update".split()
+BARRED_NAMES = (
+    "register mro elements open input version_info with_traceback add_note attrgetter breakpoint "
+    "builtins compile copyright credits delattr dir eval exec exit gc getattr globals hasattr help "
+    "id importlib license locals methodcaller os quit setattr super type vars sys format format_map"
+).split()
+BARRED_WORDS = re.compile(
+    r"\b(type|typing|typing_extensions|enum|Enum|IntEnum|StrEnum|Flag|IntFlag|Generic|Protocol|ABC|"
+    r"ABCMeta|namedtuple|NamedTuple|TypedDict|TYPE_CHECKING|abstractmethod)\b"
+    r"|dataclass|overload|contextmanager"
+)
+BARRED_FILES = re.compile(r"law_.*|test|tests|testing|test_.*|site|conftest|sitecustomize|usercustomize")
+ESCAPE = re.compile(r"\\(?![nt\\'\"])")
+
+
+def parents_of(tree):
+    """Each node's parent."""
+    return {child: node for node in ast.walk(tree) for child in ast.iter_child_nodes(node)}
+
+
+def is_docstring(node):
+    return isinstance(node, ast.Expr) and isinstance(node.value, ast.Constant) and isinstance(node.value.value, str)
+
+
+def text_faults(text):
+    """L10, L14, L17, L27: what can be seen in the text alone."""
+    lines = text.split("\n")
+    if len(lines) > 401:
+        yield "L10 a file of more than 400 lines"
+    for at, line in enumerate(lines, 1):
+        if len(line) > 120:
+            yield f"L10 line {at} is too long"
+        if re.search(r"[^ -~]", line):
+            yield f"L14 line {at} has another sign"
+        if BARRED_WORDS.search(line):
+            yield f"L17 line {at} has a barred word"
+    for token in tokenize.generate_tokens(io.StringIO(text).readline):
+        if token.type == tokenize.STRING:
+            if "%" in token.string:
+                yield f"L27 line {token.start[0]} has a percent sign in a string"
+            if ESCAPE.search(token.string) or not token.string[0] in "'\"":
+                yield f"L27 line {token.start[0]} has another escape or prefix"
+
+
+def warning_faults(text):
+    with warnings.catch_warnings():
+        warnings.simplefilter("error")
+        try:
+            compile(text, "file", "exec")
+        except (SyntaxError, Warning) as fault:
+            yield f"L27 Python warns: {fault}"
+
+
+def bound_names(tree):
+    """Each binding of a name, with its node."""
+    for node in ast.walk(tree):
+        if isinstance(node, (ast.FunctionDef, ast.ClassDef)):
+            yield node.name, node
+        elif isinstance(node, ast.arg):
+            yield node.arg, node
+        elif isinstance(node, ast.alias):
+            yield node.asname or node.name, node
+        elif isinstance(node, ast.Name) and not isinstance(node.ctx, ast.Load):
+            yield node.id, node
+
+
+def module_names(tree):
+    """What is bound at module level, in order."""
+    for node in tree.body:
+        if isinstance(node, ast.Assign):
+            for target in node.targets:
+                yield target.id if isinstance(target, ast.Name) else "?"
+        elif isinstance(node, ast.ImportFrom):
+            for alias in node.names:
+                yield alias.name
+        elif isinstance(node, (ast.FunctionDef, ast.ClassDef)):
+            yield node.name
+
+
+def is_plain(node):
+    """Whether this is a plain value, computed of literals alone."""
+    allowed = LITERALS + (ast.BinOp, ast.UnaryOp, ast.operator, ast.USub, ast.Load)
+    if not all(isinstance(part, allowed) for part in ast.walk(node)):
+        return False
+    if isinstance(node, (ast.List, ast.Dict)):
+        inner = list(ast.walk(node))[1:]
+        return not any(isinstance(part, (ast.List, ast.Dict)) for part in inner)
+    return True
+
+
+def module_faults(tree):
+    """L2, L3, L15, L16: what stands at module level."""
+    for at, node in enumerate(tree.body):
+        if isinstance(node, (ast.FunctionDef, ast.ClassDef, ast.ImportFrom)):
+            continue
+        if is_docstring(node) and at == 0:
+            continue
+        single = isinstance(node, ast.Assign) and len(node.targets) == 1
+        if not (single and isinstance(node.targets[0], ast.Name) and is_plain(node.value)):
+            yield f"L3 line {node.lineno}: no such statement at module level"
+    names = list(module_names(tree))
+    for name in names:
+        if names.count(name) > 1:
+            yield f"L15 {name} is bound twice"
+
+
+def import_faults(tree, modules):
+    """L2, L16: imports name the very file that defines the name. Modules are trees by full names."""
+    for node in ast.walk(tree):
+        if not isinstance(node, ast.ImportFrom):
+            continue
+        if node not in tree.body or node.level or node.module not in modules:
+            yield f"L2 line {node.lineno}: no such import"
+            continue
+        source = modules[node.module]
+        own = [part.name for part in source.body if isinstance(part, (ast.FunctionDef, ast.ClassDef))]
+        own += [part.targets[0].id for part in source.body if isinstance(part, ast.Assign)]
+        for alias in node.names:
+            if alias.asname or alias.name not in own:
+                yield f"L16 line {node.lineno}: {alias.name} is not of that file"
+    places = [at for at, node in enumerate(tree.body) if isinstance(node, ast.ImportFrom)]
+    others = [at for at, node in enumerate(tree.body) if not isinstance(node, ast.ImportFrom) and not is_docstring(node)]
+    if places and others and max(places) > min(others):
+        yield "L2 an import stands below other things"
+
+
+def cycle_faults(modules):
+    """L16: no two files import from each other, through others neither."""
+    reached = {
+        name: {node.module for node in ast.walk(tree) if isinstance(node, ast.ImportFrom)}
+        for name, tree in modules.items()
+    }
+    for turn in modules:
+        for name in reached:
+            reached[name] = reached[name].union(*[reached.get(other, set()) for other in reached[name]])
+    return [f"L16 {name} imports itself" for name in reached if name in reached[name]]
+
+
+def function_faults(node, parents):
+    """L4, L10, L28: one function."""
+    given = node.args
+    if given.vararg or given.kwarg or given.posonlyargs or given.kwonlyargs or node.decorator_list:
+        yield f"L4 {node.name}: parameters are plain, decorators are none"
+    if not all(is_plain(value) for value in given.defaults):
+        yield f"L4 {node.name}: default values are plain"
+    if not isinstance(parents[node], (ast.Module, ast.ClassDef)):
+        yield f"L4 {node.name} is nested: not looked at here"
+    if node.end_lineno - node.lineno + 1 > 40:
+        yield f"L10 {node.name} has more than 40 lines"
+    if node.name.startswith("__") and (node.name != "__init__" or isinstance(parents[node], ast.Module)):
+        yield f"L5 {node.name} is not looked at here"
+
+
+def class_faults(node, parents):
+    """L5, L15: one class."""
+    if len(node.bases) > 1 or node.keywords or node.decorator_list or not isinstance(parents[node], ast.Module):
+        yield f"L5 {node.name}: one base at most, at module level"
+    for part in node.body:
+        if not isinstance(part, ast.FunctionDef) and not (is_docstring(part) and part == node.body[0]):
+            yield f"L5 {node.name} has more than methods"
+
+
+def name_faults(tree):
+    """L8, L12, L15, L17: names that are bound, and names that are read."""
+    imports = [alias.name for node in ast.walk(tree) if isinstance(node, ast.ImportFrom) for alias in node.names]
+    classes = [node.name for node in tree.body if isinstance(node, ast.ClassDef)]
+    bound = [name for name, node in bound_names(tree)]
+    for name, node in bound_names(tree):
+        dunder = name in ("__init__", "__all__", "__version__")
+        if not dunder and not re.fullmatch(r"[A-Za-z][A-Za-z0-9_]*", name):
+            yield f"L12 {name}"
+        if name in BARRED_NAMES:
+            yield f"L17 {name}"
+        if hasattr(builtins, name):
+            yield f"L8 {name} is given another meaning"
+        if isinstance(node, (ast.arg, ast.Name)) and name in imports + classes:
+            yield f"L15 {name} is a class or an import of its file"
+    for node in ast.walk(tree):
+        if isinstance(node, ast.Name) and node.id not in bound and node.id not in BUILTINS:
+            yield f"L8 line {node.lineno}: {node.id} is none of the builtins"
+
+
+def call_faults(node, parents, classes):
+    """L7, L22, L23, L25: one call."""
+    where = f"line {node.lineno}"
+    if isinstance(node.func, LITERALS):
+        yield f"L7 {where}: a literal is called"
+    if isinstance(node.func, ast.Attribute):
+        if node.keywords:
+            yield f"L22 {where}: a method has keywords"
+        if node.func.attr not in METHODS:
+            yield f"L25 {where}: {node.func.attr}"
+        if node.func.attr in VIEWS:
+            yield from spot_faults(node, parents)
+    if not isinstance(node.func, ast.Name):
+        return
+    name = node.func.id
+    if name in ON_THE_SPOT:
+        yield from spot_faults(node, parents)
+    if name in BUILTINS and [word.arg for word in node.keywords if word.arg not in ("key", "reverse", "default", "start")]:
+        yield f"L22 {where}: keywords of a builtin"
+    if name == "isinstance":
+        kinds = node.args[1].elts if isinstance(node.args[1], ast.Tuple) else [node.args[1]]
+        if not all(isinstance(kind, ast.Name) and kind.id in KINDS + ERRORS + classes for kind in kinds):
+            yield f"L22 {where}: isinstance"
+
+
+def spot_faults(node, parents):
+    """L23: what is iterated at once."""
+    parent = parents[node]
+    if isinstance(parent, (ast.For, ast.comprehension)) and parent.iter == node:
+        return
+    if isinstance(parent, ast.Call) and isinstance(parent.func, ast.Name) and parent.func.id in TAKERS:
+        return
+    if isinstance(parent, ast.Compare) and isinstance(parent.ops[-1], (ast.In, ast.NotIn)):
+        return
+    yield f"L23 line {node.lineno}: not iterated on the spot"
+
+
+def loop_faults(node):
+    """L6, L23: one loop."""
+    if node.orelse:
+        yield f"L6 line {node.lineno}: else after a loop"
+    if isinstance(node, ast.While):
+        return
+    gone_over = {part.id for part in ast.walk(node.iter) if isinstance(part, ast.Name)}
+    for part in [inner for statement in node.body for inner in ast.walk(statement)]:
+        target = None
+        if isinstance(part, ast.Subscript) and not isinstance(part.ctx, ast.Load):
+            target = part.value
+        if isinstance(part, ast.Call) and isinstance(part.func, ast.Attribute) and part.func.attr in MODIFYING:
+            target = part.func.value
+        if isinstance(target, ast.Name) and target.id in gone_over:
+            yield f"L23 line {part.lineno}: {target.id} is modified in its loop"
+
+
+def class_use_faults(tree, parents, classes):
+    """L18: where a class's name may stand."""
+    for node in ast.walk(tree):
+        if not isinstance(node, ast.Name) or node.id not in classes:
+            continue
+        parent = parents[node]
+        called = isinstance(parent, ast.Call) and (parent.func == node or parent.func.id == "isinstance")
+        if not called and not (isinstance(parent, ast.ClassDef) and node in parent.bases):
+            yield f"L18 line {node.lineno}: {node.id} is passed on"
+
+
+def expression_faults(node, parents, classes):
+    """L7, L19, L20, L27: single nodes."""
+    where = f"line {getattr(node, 'lineno', '?')}"
+    if not isinstance(node, NODES + (ast.keyword,)) or isinstance(node, BARRED_NODES):
+        yield f"L6, L7 {where}: {node.__class__.__name__} is not looked at here"
+    if isinstance(node, ast.Constant) and not (node.value is None or isinstance(node.value, (int, str))):
+        yield f"L7 {where}: another literal"
+    if isinstance(node, ast.Compare) and any(isinstance(sign, (ast.Is, ast.IsNot)) for sign in node.ops):
+        last = node.comparators[-1]
+        if len(node.ops) > 1 or not (isinstance(last, ast.Constant) and last.value in (None, True, False)):
+            yield f"L20 {where}: is"
+    if isinstance(node, ast.BinOp) and isinstance(node.op, ast.Pow):
+        if not (isinstance(node.right, ast.Constant) and node.right.value in range(65)):
+            yield f"L27 {where}: a power with another exponent"
+    if isinstance(node, ast.Raise):
+        made = node.exc.func if isinstance(node.exc, ast.Call) else None
+        if node.cause or not isinstance(made, ast.Name) or made.id not in classes:
+            yield f"L19 {where}: raise"
+    if isinstance(node, ast.Expr) and not is_docstring(node) and not isinstance(node.value, ast.Call):
+        yield f"L6 {where}: an expression on its own"
+    if isinstance(node, ast.Attribute) and (node.attr in BARRED_NAMES or node.attr.startswith("_")):
+        yield f"L17 {where}: {node.attr}"
+
+
+def constants_of(modules):
+    """The lists and dicts at module level of any file."""
+    return {
+        node.targets[0].id
+        for tree in modules.values()
+        for node in tree.body
+        if isinstance(node, ast.Assign) and isinstance(node.value, (ast.List, ast.Dict))
+    }
+
+
+def constant_faults(tree, parents, tables):
+    """L15: a list or dict at module level is only read."""
+    for node in ast.walk(tree):
+        if not (isinstance(node, ast.Name) and node.id in tables and isinstance(node.ctx, ast.Load)):
+            continue
+        parent = parents[node]
+        read = isinstance(parent, (ast.Compare, ast.For, ast.comprehension))
+        read = read or isinstance(parent, ast.Subscript) and isinstance(parent.ctx, ast.Load)
+        read = read or isinstance(parent, ast.Attribute) and parent.attr not in MODIFYING
+        read = read or isinstance(parent, ast.Call) and getattr(parent.func, "id", "") in BUILTINS
+        if not read:
+            yield f"L15 line {node.lineno}: {node.id} is passed on or modified"
+
+
+def file_faults(text, modules):
+    """All that is wrong with a file's text."""
+    found = list(text_faults(text)) + list(warning_faults(text))
+    with warnings.catch_warnings():
+        warnings.simplefilter("ignore")
+        tree = ast.parse(text)
+    parents = parents_of(tree)
+    classes = [node.name for other in modules.values() for node in other.body if isinstance(node, ast.ClassDef)]
+    classes += [node.name for node in tree.body if isinstance(node, ast.ClassDef)]
+    found += list(module_faults(tree)) + list(import_faults(tree, modules)) + list(name_faults(tree))
+    found += list(class_use_faults(tree, parents, classes))
+    found += list(constant_faults(tree, parents, constants_of(modules)))
+    for node in ast.walk(tree):
+        found += expression_faults(node, parents, classes)
+        if isinstance(node, ast.FunctionDef):
+            found += function_faults(node, parents)
+        if isinstance(node, ast.ClassDef):
+            found += class_faults(node, parents)
+        if isinstance(node, ast.Call):
+            found += call_faults(node, parents, classes)
+        if isinstance(node, (ast.For, ast.While)):
+            found += loop_faults(node)
+    return found
+
+
+def package_files():
+    return [path for path in sorted(FOLDER.rglob("*")) if "__pycache__" not in path.parts]
+
+
+def package_modules():
+    names = {f"{PACKAGE}.{path.stem}": path for path in package_files() if path.stem != "__init__"}
+    return {name: ast.parse(path.read_text("ascii")) for name, path in names.items()}
+
+
+class Package(unittest.TestCase):
+    def test_the_folder(self):
+        paths = package_files()
+        self.assertIn(FOLDER / "__init__.py", paths)
+        self.assertLessEqual(len(paths), 100)
+        for path in paths:
+            self.assertEqual(path.parent, FOLDER)
+            self.assertEqual(path.suffix, ".py")
+            if path.name != "__init__.py":
+                self.assertRegex(path.stem, r"\A[a-z][a-z0-9_]*\Z")
+                barred = BARRED_FILES.fullmatch(path.stem) or BARRED_WORDS.fullmatch(path.stem)
+                self.assertFalse(barred or hasattr(builtins, path.stem) or keyword.iskeyword(path.stem), path)
+
+    def test_each_file(self):
+        modules = package_modules()
+        for path in package_files():
+            self.assertEqual(file_faults(path.read_text("ascii"), modules), [], path)
+
+    def test_no_two_files_import_from_each_other(self):
+        self.assertEqual(cycle_faults(package_modules()), [])
+
+    def test_the_init_binds_no_name_of_a_file(self):
+        bound = list(module_names(ast.parse((FOLDER / "__init__.py").read_text("ascii"))))
+        self.assertEqual([path.stem for path in package_files() if path.stem in bound], [])
+
+
+WRONG = {
+    "L2": ["from sys import argv\n", "from . import deeds\n", "A = 1\nfrom joinedasks.deeds import done\n"],
+    "L3": ["len([])\n", "if True:\n    A = 1\n", "A = len([])\n", "A = B = 1\n", "A = [[1]]\n", "import sys\n"],
+    "L4": ["def f(*xs):\n    return xs\n", "def f(xs=len([])):\n    return xs\n", "@len\ndef g():\n    return 1\n"],
+    "L5": ["class A:\n    b = 1\n", "class A(KeyError, ValueError):\n    pass\n", "def __len__():\n    return 1\n"],
+    "L6": [
+        "def f():\n    global k\n",
+        "def f(k):\n    k\n",
+        "def f(ks):\n    for k in ks:\n        pass\n    else:\n        pass\n",
+        "def f(k):\n    return 1 / k\n",
+        "def f(ks):\n    return any(k for k in ks)\n",
+    ],
+    "L7": ["A = 1.5\n", "A = b''\n"],
+    "L8": ["def f(k):\n    return chr(k)\n", "def f(hash):\n    return hash\n"],
+    "L10": ["A = 1\n" * 401, "A = " + "1 + " * 40 + "1\n", "def f():\n" + "    k = 1\n" * 40],
+    "L12": ["def f(_):\n    return 1\n", "_a = 1\n"],
+    "L14": ["A = '\u00e4'\n", "if True:\n\tA = 1\n"],
+    "L15": ["A = 1\nA = 2\n", "class A:\n    pass\n\n\ndef f(A):\n    return 1\n"],
+    "L16": [
+        "from joinedasks.deeds import NoDeed\n",
+        "from joinedasks.deeds import done as did\n",
+        "from joinedasks.deeds import *\n",
+    ],
+    "L17": ["# of that type\n", "def f(os):\n    return os\n", "def f(k):\n    return k.mro\n"],
+    "L18": ["class A:\n    pass\n\n\ndef f():\n    return [A]\n"],
+    "L19": ["def f():\n    raise ValueError\n", "def f(e):\n    raise e\n"],
+    "L20": ["def f(j, k):\n    return j is k\n", "def f(j, k):\n    return j is not k\n"],
+    "L22": ["def f(k):\n    return isinstance(k, k)\n", "def f(k):\n    return int(k, base=2)\n"],
+    "L23": [
+        "def f(k):\n    return range(k)\n",
+        "def f(k):\n    return k.items()\n",
+        "def f(ks):\n    for k in ks:\n        ks.append(k)\n",
+        "def f(ks):\n    for at, k in enumerate(ks):\n        ks[at] = k\n",
+    ],
+    "L25": ["def f(k):\n    return k.encode()\n", "def f(k):\n    return k.union(k)\n"],
+    "L27": ["def f(k):\n    return 2 ** k\n", "A = 'a%'\n", "A = '\\x41'\n", "A = 1if 2 else 3\n"],
+}
+WRITTEN_TABLE = "A = [1]\n\n\ndef f():\n    A.append(1)\n"
+
+
+class Checks(unittest.TestCase):
+    """A check that finds nothing wrong anywhere would be none."""
+
+    def test_each_wrong_file_is_found(self):
+        modules = package_modules()
+        for rule, texts in WRONG.items():
+            for text in texts:
+                faults = file_faults(text, modules)
+                self.assertTrue([fault for fault in faults if fault.startswith(rule)], (rule, text, faults))
+
+    def test_written_tables_are_found(self):
+        faults = file_faults(WRITTEN_TABLE, {"joinedasks.a": ast.parse(WRITTEN_TABLE)})
+        self.assertTrue([fault for fault in faults if fault.startswith("L15")], faults)
+
+    def test_cycles_are_found(self):
+        modules = {
+            "joinedasks.a": ast.parse("from joinedasks.b import f\n"),
+            "joinedasks.b": ast.parse("from joinedasks.c import f\n"),
+            "joinedasks.c": ast.parse("from joinedasks.a import f\n"),
+        }
+        self.assertEqual(len(cycle_faults(modules)), 3)
+
+
+if __name__ == "__main__":
+    unittest.main()
