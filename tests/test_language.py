@@ -1,7 +1,7 @@
 """The rules of LANGUAGE.md, for every file of the package.
 
 Only what the package needs of the language is let through here; where the rules allow more than
-that (try, sets, lambdas, nested functions, f-strings ..) this file is to grow with the package.
+that (try, stored sets, lambdas, nested functions, f-strings ..) this file is to grow with the package.
 """
 
 import ast
@@ -22,7 +22,7 @@ NODES = (
     ast.Assign, ast.AugAssign, ast.If, ast.While, ast.For, ast.Return, ast.Break, ast.Continue,
     ast.Pass, ast.Raise, ast.Expr, ast.Constant, ast.List, ast.Tuple, ast.Dict, ast.Name,
     ast.Attribute, ast.Subscript, ast.Slice, ast.Call, ast.Compare, ast.BoolOp, ast.BinOp,
-    ast.UnaryOp, ast.IfExp, ast.ListComp, ast.comprehension, ast.expr_context, ast.boolop,
+    ast.UnaryOp, ast.IfExp, ast.ListComp, ast.DictComp, ast.comprehension, ast.expr_context, ast.boolop,
     ast.operator, ast.unaryop, ast.cmpop,
 )
 BARRED_NODES = (ast.Div, ast.MatMult)
@@ -32,7 +32,7 @@ ERRORS = (
     "ArithmeticError OverflowError RuntimeError NotImplementedError"
 ).split()
 BUILTINS = (
-    "len range enumerate zip min max sum abs sorted reversed int str bool list tuple dict "
+    "len range enumerate zip min max sum abs sorted reversed int str bool list tuple dict set "
     "isinstance ord repr any all divmod"
 ).split() + ERRORS
 KINDS = "int str bool list tuple dict".split()
@@ -252,6 +252,18 @@ def call_faults(node, parents, classes):
             yield f"L22 {where}: isinstance"
 
 
+def set_faults(tree, parents):
+    """L24: a set is counted or sorted where it is made."""
+    for node in ast.walk(tree):
+        if not (isinstance(node, ast.Name) and node.id == "set"):
+            continue
+        made = parents[node]
+        taker = parents[made]
+        right = isinstance(made, ast.Call) and made.func == node and isinstance(taker, ast.Call)
+        if not right or getattr(taker.func, "id", "") not in ("len", "sorted") or taker.keywords:
+            yield f"L24 line {node.lineno}: a set is kept"
+
+
 def spot_faults(node, parents):
     """L23: what is iterated at once."""
     parent = parents[node]
@@ -352,6 +364,7 @@ def file_faults(text, modules):
     found += list(module_faults(tree)) + list(import_faults(tree, modules)) + list(name_faults(tree))
     found += list(class_use_faults(tree, parents, classes))
     found += list(constant_faults(tree, parents, constants_of(modules)))
+    found += list(set_faults(tree, parents))
     for node in ast.walk(tree):
         found += expression_faults(node, parents, classes)
         if isinstance(node, ast.FunctionDef):
@@ -433,6 +446,13 @@ WRONG = {
         "def f(k):\n    return k.items()\n",
         "def f(ks):\n    for k in ks:\n        ks.append(k)\n",
         "def f(ks):\n    for at, k in enumerate(ks):\n        ks[at] = k\n",
+    ],
+    "L24": [
+        "def f(ks):\n    return set(ks)\n",
+        "def f(ks):\n    return [k for k in set(ks)]\n",
+        "def f(ks):\n    seen = set()\n    return ks in seen\n",
+        "def f(ks):\n    return sorted(set(ks), reverse=True)\n",
+        "def f(ks):\n    return len(ks, set)\n",
     ],
     "L25": ["def f(k):\n    return k.encode()\n", "def f(k):\n    return k.union(k)\n"],
     "L27": ["def f(k):\n    return 2 ** k\n", "A = 'a%'\n", "A = '\\x41'\n", "A = 1if 2 else 3\n"],
