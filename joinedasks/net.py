@@ -18,6 +18,11 @@ def is_line(k, thing):
     return is_within(thing, 0, (1 << k) - 1)
 
 
+def is_switch(k, stage, number):
+    """Whether the net has a switch of this stage and number."""
+    return is_within(stage, 1, k) and is_within(number, 0, (1 << (k - 1)) - 1)
+
+
 def need_hand(k, thing):
     """Refuses what is no hand of the net."""
     if not is_line(k, thing):
@@ -49,6 +54,12 @@ def switch_at(k, stage, line):
     """The number of that switch of the stage that has the line: its figures without the stage-th one."""
     behind = k - stage
     return (line >> (behind + 1) << behind) | (line & ((1 << behind) - 1))
+
+
+def in_line(k, stage, number, mark):
+    """The in-line of the switch that has this one as its stage-th figure."""
+    behind = k - stage
+    return (number >> behind << (behind + 1)) | (mark << behind) | (number & ((1 << behind) - 1))
 
 
 def way_of(k, hand, side):

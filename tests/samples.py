@@ -177,3 +177,6 @@ def no_settings(k):
                 row = (0,) * at + (mark,) + (0,) * (many - 1 - at)
                 wrong.append(right[:place] + (row,) + right[place + 1:])
     return wrong
+
+
+NO_TUPLES_OF_TWO = ODD_THINGS + ODD_TUPLES + ODD_TEXTS + [0, (0,), (0, 0, 0), [0, 0], ((0, 0),), "00", {0: 0, 1: 0}]

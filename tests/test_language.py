@@ -1,7 +1,8 @@
 """The rules of LANGUAGE.md, for every file of the package.
 
 Only what the package needs of the language is let through here; where the rules allow more than
-that (try, stored sets, lambdas, nested functions, f-strings ..) this file is to grow with the package.
+that (try, stored sets, lambdas, nested functions, f-strings, methods with the names of builtin ones ..)
+this file is to grow with the package.
 """
 
 import ast
@@ -45,6 +46,8 @@ METHODS = (
     "rjust rpartition rsplit rstrip setdefault split splitlines startswith strip update upper values "
     "zfill bit_length removeprefix removesuffix rindex isascii isdecimal isnumeric"
 ).split()
+FREE_ATTRIBUTES = "count index title find get join lower upper split strip copy add".split()
+TAKEN_NAMES = {name for kind in (str, int, list, dict, set, bytes, tuple) for name in dir(kind)}
 MODIFYING = "append clear extend insert pop remove reverse setdefault update".split()
 BARRED_NAMES = (
     "register mro elements open input version_info with_traceback add_note attrgetter breakpoint "
@@ -218,7 +221,7 @@ def name_faults(tree):
             yield f"L12 {name}"
         if name in BARRED_NAMES:
             yield f"L17 {name}"
-        if hasattr(builtins, name):
+        if hasattr(builtins, name) and not dunder:
             yield f"L8 {name} is given another meaning"
         if isinstance(node, (ast.arg, ast.Name)) and name in imports + classes:
             yield f"L15 {name} is a class or an import of its file"
@@ -227,7 +230,90 @@ def name_faults(tree):
             yield f"L8 line {node.lineno}: {node.id} is none of the builtins"
 
 
-def call_faults(node, parents, classes):
+def methods_of(trees):
+    """The names of the methods of all classes, with the classes that have them."""
+    found = {}
+    for tree in trees:
+        for node in ast.walk(tree):
+            if isinstance(node, ast.ClassDef):
+                for part in node.body:
+                    if isinstance(part, ast.FunctionDef):
+                        found.setdefault(part.name, []).append((node.name, part))
+    return found
+
+
+def attributes_of(trees):
+    """The names of the attributes that are assigned anywhere."""
+    nodes = [node for tree in trees for node in ast.walk(tree) if isinstance(node, ast.Attribute)]
+    return {node.attr for node in nodes if not isinstance(node.ctx, ast.Load)}
+
+
+def member_faults(tree, parents, modules):
+    """L18, L26, L28: methods and attributes."""
+    trees = list(modules.values()) + [tree]
+    methods, attributes = methods_of(trees), attributes_of(trees)
+    for name in sorted(attributes):
+        if name in methods:
+            yield f"L18 {name} is a method and an attribute"
+        if name in TAKEN_NAMES and name not in FREE_ATTRIBUTES:
+            yield f"L26 an attribute is called {name}"
+    for name, owners in methods_of([tree]).items():
+        owner_names = [owner for owner, part in owners]
+        if len(set(owner_names)) != len(owner_names):
+            yield f"L18 {name} is defined twice"
+        if name != "__init__" and name in TAKEN_NAMES:
+            yield f"L26 a method is called {name}"
+        for owner, part in owners:
+            returns = [node for node in ast.walk(part) if isinstance(node, ast.Return)]
+            if name == "__init__" and returns:
+                yield "L28 __init__ returns"
+            if not part.args.args or part.args.args[0].arg != "self":
+                yield f"L4 {name} has no self"
+    for node in ast.walk(tree):
+        if isinstance(node, ast.Attribute):
+            called = isinstance(parents[node], ast.Call) and parents[node].func == node
+            if not called and node.attr not in attributes:
+                yield f"L18 line {node.lineno}: {node.attr} is assigned nowhere"
+            if not isinstance(node.ctx, ast.Load) and not isinstance(node.value, ast.Name):
+                yield f"L18 line {node.lineno}: {node.attr} is not assigned through a local name"
+
+
+def takes(part, given, bound):
+    """Whether the function takes so many arguments by place; bound is how many are given anyway."""
+    most = len(part.args.args) - bound
+    return most - len(part.args.defaults) <= given <= most
+
+
+def argument_faults(tree, modules):
+    """L22: each call of an own function, class or method passes what it takes."""
+    functions = {}
+    for node in tree.body:
+        if isinstance(node, ast.ImportFrom) and node.module in modules:
+            names = [alias.name for alias in node.names]
+            for part in modules[node.module].body:
+                if isinstance(part, (ast.FunctionDef, ast.ClassDef)) and part.name in names:
+                    functions[part.name] = part
+        elif isinstance(node, (ast.FunctionDef, ast.ClassDef)):
+            functions[node.name] = node
+    methods = methods_of(list(modules.values()) + [tree])
+    for node in ast.walk(tree):
+        if not isinstance(node, ast.Call):
+            continue
+        where = f"L22 line {node.lineno}"
+        if isinstance(node.func, ast.Name):
+            part = functions.get(node.func.id)
+            if isinstance(part, ast.FunctionDef) and (node.keywords or not takes(part, len(node.args), 0)):
+                yield f"{where}: {part.name} takes other arguments"
+            if isinstance(part, ast.ClassDef):
+                begin = [own for own in part.body if isinstance(own, ast.FunctionDef) and own.name == "__init__"]
+                if begin and not takes(begin[0], len(node.args), 1):
+                    yield f"{where}: {part.name} takes other arguments"
+        elif isinstance(node.func, ast.Attribute) and node.func.attr in methods:
+            if not any(takes(part, len(node.args), 1) for owner, part in methods[node.func.attr]):
+                yield f"{where}: {node.func.attr} takes other arguments"
+
+
+def call_faults(node, parents, classes, methods):
     """L7, L22, L23, L25: one call."""
     where = f"line {node.lineno}"
     if isinstance(node.func, LITERALS):
@@ -235,7 +321,7 @@ def call_faults(node, parents, classes):
     if isinstance(node.func, ast.Attribute):
         if node.keywords:
             yield f"L22 {where}: a method has keywords"
-        if node.func.attr not in METHODS:
+        if node.func.attr not in METHODS and node.func.attr not in methods:
             yield f"L25 {where}: {node.func.attr}"
         if node.func.attr in VIEWS:
             yield from spot_faults(node, parents)
@@ -365,6 +451,8 @@ def file_faults(text, modules):
     found += list(class_use_faults(tree, parents, classes))
     found += list(constant_faults(tree, parents, constants_of(modules)))
     found += list(set_faults(tree, parents))
+    found += list(member_faults(tree, parents, modules)) + list(argument_faults(tree, modules))
+    methods = methods_of(list(modules.values()) + [tree])
     for node in ast.walk(tree):
         found += expression_faults(node, parents, classes)
         if isinstance(node, ast.FunctionDef):
@@ -372,7 +460,7 @@ def file_faults(text, modules):
         if isinstance(node, ast.ClassDef):
             found += class_faults(node, parents)
         if isinstance(node, ast.Call):
-            found += call_faults(node, parents, classes)
+            found += call_faults(node, parents, classes, methods)
         if isinstance(node, (ast.For, ast.While)):
             found += loop_faults(node)
     return found
@@ -437,10 +525,26 @@ WRONG = {
         "from joinedasks.deeds import *\n",
     ],
     "L17": ["# of that type\n", "def f(os):\n    return os\n", "def f(k):\n    return k.mro\n"],
-    "L18": ["class A:\n    pass\n\n\ndef f():\n    return [A]\n"],
+    "L18": [
+        "class A:\n    pass\n\n\ndef f():\n    return [A]\n",
+        "class A:\n    def beat(self):\n        self.beat = 1\n",
+        "class A:\n    def __init__(self):\n        self.waiting = 1\n",
+        "class A:\n    def now(self):\n        return 1\n",
+        "class A:\n    def f(self):\n        return self.nowhere\n",
+        "class A:\n    def f(self):\n        return 1\n\n    def f(self):\n        return 2\n",
+        "def f(k):\n    k.one.other = 1\n",
+    ],
     "L19": ["def f():\n    raise ValueError\n", "def f(e):\n    raise e\n"],
     "L20": ["def f(j, k):\n    return j is k\n", "def f(j, k):\n    return j is not k\n"],
-    "L22": ["def f(k):\n    return isinstance(k, k)\n", "def f(k):\n    return int(k, base=2)\n"],
+    "L22": [
+        "def f(k):\n    return isinstance(k, k)\n",
+        "def f(k):\n    return int(k, base=2)\n",
+        "def f(k):\n    return f(k, k)\n",
+        "def f(j, k):\n    return f(k)\n",
+        "from joinedasks.net import way\n\n\ndef f(k):\n    return way(k, k)\n",
+        "class A:\n    def f(self, k):\n        return self.f()\n",
+        "class A:\n    def __init__(self, k):\n        pass\n\n\ndef f():\n    return A()\n",
+    ],
     "L23": [
         "def f(k):\n    return range(k)\n",
         "def f(k):\n    return k.items()\n",
@@ -455,6 +559,11 @@ WRONG = {
         "def f(ks):\n    return len(ks, set)\n",
     ],
     "L25": ["def f(k):\n    return k.encode()\n", "def f(k):\n    return k.union(k)\n"],
+    "L26": [
+        "class A:\n    def decode(self):\n        return 1\n",
+        "class A:\n    def __init__(self):\n        self.values = 1\n",
+    ],
+    "L28": ["class A:\n    def __init__(self):\n        return None\n"],
     "L27": ["def f(k):\n    return 2 ** k\n", "A = 'a%'\n", "A = '\\x41'\n", "A = 1if 2 else 3\n"],
 }
 WRITTEN_TABLE = "A = [1]\n\n\ndef f():\n    A.append(1)\n"

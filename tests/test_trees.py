@@ -6,7 +6,8 @@ from joinedasks.boards import played
 from joinedasks.deeds import done, then
 from joinedasks.errors import NoDeed, NoNumber, NoTree
 from joinedasks.trees import chained, folded, halved, is_tree, shared_out
-from samples import BIG, BIG_DEEDS, DEEDS, NO_DEEDS, NO_NUMBERS, ODD_TEXTS, ODD_THINGS, ODD_TUPLES, nested, plainly
+from samples import BIG, BIG_DEEDS, DEEDS, NO_DEEDS, NO_NUMBERS, nested, plainly
+from treesamples import NO_TREES, all_trees, some_trees
 
 ADD = (5, None, None)
 NO_MANY = NO_NUMBERS + [0, -1, 41, BIG, -BIG]
@@ -19,44 +20,6 @@ NO_ROWS = (
     + [(ADD, thing) for thing in NO_DEEDS]
     + [(thing, ADD) for thing in NO_DEEDS]
 )
-
-
-def all_trees(first, many):
-    """Every tree over so many numbers, from the first on."""
-    if many == 1:
-        return [first]
-    return [
-        (left, right)
-        for parting in range(1, many)
-        for left in all_trees(first, parting)
-        for right in all_trees(first + parting, many - parting)
-    ]
-
-
-def leaning_right(many):
-    tree = many - 1
-    for number in range(many - 2, -1, -1):
-        tree = (number, tree)
-    return tree
-
-
-def mixed(first, many, turn):
-    """A tree that is parted now here, now there."""
-    if many == 1:
-        return first
-    left = 1 + (turn * 7 + many) % (many - 1)
-    return (mixed(first, left, turn + 1), mixed(first + left, many - left, turn + 2))
-
-
-def some_trees(many):
-    return [halved(many), chained(many), leaning_right(many)] + [mixed(0, many, turn) for turn in range(6)]
-
-
-NO_TREES = ODD_THINGS + ODD_TUPLES + ODD_TEXTS + [
-    1, -1, 0, BIG, (1, 0), (0, 0), (1, 1), (1, 2), (0, 2), (-1, 0), (0, -1), (0, BIG), (0, 1, 2), ((0, 1), 2), (0, (1, 2)),
-    (False, True), (0, True), (False, 1), [0, 1], (0, [1]), ([0], 1), ((0,), 1), (0, (1,)), ((0, 1),), (0, None),
-    ("0", "1"), (0, "1"), (0, ()), ((), (0, 1)), ((0, 1), ()), ((0, 1), (0, 1)), "01", {0: 1}, {0, 1},
-]
 
 
 class IsTree(unittest.TestCase):
