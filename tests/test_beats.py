@@ -415,6 +415,18 @@ class Looks(unittest.TestCase):
             net.put((0, 0, ADD))
         self.assertIs(net.answer(2), None)
 
+    def test_what_is_refused_changes_nothing(self):
+        net = filled(2, (0, 1), 1, 1, [(hand, 0, plus(hand)) for hand in range(4)])
+        for turn in range(8):
+            ahead = seen(net, 2)
+            for thing in NO_NUMBERS + [-1, 16]:
+                for refused in (net.answer, lambda line: net.waiting(0, line), lambda number: net.joinings(1, number)):
+                    with self.assertRaises((NoNumber, NoSide)):
+                        refused(thing)
+            self.assertEqual(seen(net, 2), ahead)
+            net.beat()
+        self.assertEqual((net.beats(), net.todo(), net.board()), (8, 0, (6, 1)))
+
     def test_looking_changes_nothing(self):
         net = filled(2, (0, 1), 1, 1, [(hand, 0, plus(hand)) for hand in range(4)])
         for turn in range(8):
