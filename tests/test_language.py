@@ -127,11 +127,15 @@ def module_names(tree):
             yield node.name
 
 
-def is_plain(node):
-    """Whether this is a plain value, computed of literals alone."""
+def is_plain(node, functions=()):
+    """Whether this is a plain value, computed of literals alone, or a table of such and of these functions."""
     allowed = LITERALS + (ast.BinOp, ast.UnaryOp, ast.operator, ast.USub, ast.Load)
-    if not all(isinstance(part, allowed) for part in ast.walk(node)):
-        return False
+    tables = [part for part in ast.walk(node) if isinstance(part, (ast.List, ast.Tuple, ast.Dict))]
+    listed = [item for table in tables for item in (table.values if isinstance(table, ast.Dict) else table.elts)]
+    for part in ast.walk(node):
+        function = isinstance(part, ast.Name) and part in listed and part.id in functions
+        if not function and not isinstance(part, allowed):
+            return False
     if isinstance(node, (ast.List, ast.Dict)):
         inner = list(ast.walk(node))[1:]
         return not any(isinstance(part, (ast.List, ast.Dict)) for part in inner)
@@ -146,7 +150,8 @@ def module_faults(tree):
         if is_docstring(node) and at == 0:
             continue
         single = isinstance(node, ast.Assign) and len(node.targets) == 1
-        if not (single and isinstance(node.targets[0], ast.Name) and is_plain(node.value)):
+        above = [part.name for part in tree.body[:at] if isinstance(part, ast.FunctionDef)]
+        if not (single and isinstance(node.targets[0], ast.Name) and is_plain(node.value, above)):
             yield f"L3 line {node.lineno}: no such statement at module level"
     names = list(module_names(tree))
     for name in names:
@@ -318,6 +323,8 @@ def call_faults(node, parents, classes, methods):
     where = f"line {node.lineno}"
     if isinstance(node.func, LITERALS):
         yield f"L7 {where}: a literal is called"
+    if isinstance(node.func, ast.Subscript):
+        yield f"L3 {where}: a function of a table is called without a name"
     if isinstance(node.func, ast.Attribute):
         if node.keywords:
             yield f"L22 {where}: a method has keywords"
@@ -503,7 +510,13 @@ class Package(unittest.TestCase):
 
 WRONG = {
     "L2": ["from sys import argv\n", "from . import deeds\n", "A = 1\nfrom joinedasks.deeds import done\n"],
-    "L3": ["len([])\n", "if True:\n    A = 1\n", "A = len([])\n", "A = B = 1\n", "A = [[1]]\n", "import sys\n"],
+    "L3": ["len([])\n", "if True:\n    A = 1\n", "A = len([])\n", "A = B = 1\n", "A = [[1]]\n", "import sys\n"] + [
+        "A = [f]\n\n\ndef f():\n    return 1\n",
+        "def f():\n    return 1\n\n\nA = f\n",
+        "def f():\n    return 1\n\n\nA = {f: 1}\n",
+        "def f():\n    return 1\n\n\nA = [f + 1]\n",
+        "def f():\n    return 1\n\n\nA = [f]\n\n\ndef g():\n    return A[0]()\n",
+    ],
     "L4": ["def f(*xs):\n    return xs\n", "def f(xs=len([])):\n    return xs\n", "@len\ndef g():\n    return 1\n"],
     "L5": ["class A:\n    b = 1\n", "class A(KeyError, ValueError):\n    pass\n", "def __len__():\n    return 1\n"],
     "L6": [
@@ -582,6 +595,11 @@ class Checks(unittest.TestCase):
     def test_written_tables_are_found(self):
         faults = file_faults(WRITTEN_TABLE, {"joinedasks.a": ast.parse(WRITTEN_TABLE)})
         self.assertTrue([fault for fault in faults if fault.startswith("L15")], faults)
+
+    def test_tables_of_functions_are_let_through(self):
+        begin = "def f():\n    return 1\n\n\n"
+        for table in ("A = [f]\n", "A = (f, 1)\n", "A = {1: f}\n", "A = {1: (2, f)}\n"):
+            self.assertEqual(file_faults(begin + table, {}), [], table)
 
     def test_cycles_are_found(self):
         modules = {
